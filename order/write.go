@@ -29,7 +29,7 @@ func check(o api.Order, cells int) api.Errno {
 		return api.ErrMany
 	case !isPlace(o, cells):
 		return api.ErrAddress
-	case !isShown(o):
+	case !mayStand(o):
 		return api.ErrOrder
 	case !isFit(o):
 		return api.ErrAttr
@@ -55,9 +55,12 @@ func isPlace(o api.Order, cells int) bool {
 	return e == api.OK
 }
 
-// isShown tells whether an order's bytes, if it has some that are shown, can be.
-func isShown(o api.Order) bool {
+// mayStand tells whether an order's bytes, if it has some, may stand in it.
+func mayStand(o api.Order) bool {
 	switch o.Kind {
+	case api.OrderSF:
+		// Parse tells six bits: a byte that has others would come back as another one.
+		return int(o.Byte) == addr.Value(o.Byte)
 	case api.OrderGE:
 		return stands(o.Byte, true)
 	case api.OrderRA:

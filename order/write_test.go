@@ -49,7 +49,8 @@ func TestWriteEach(t *testing.T) { // P12.1: as few cells as may be, and as many
 		{api.Order{Kind: api.OrderGE, Byte: 0xFF}, 0, "08 FF"},
 		{api.Order{Kind: api.OrderSF, Byte: 0x30}, 0, "1D F0"},
 		{api.Order{Kind: api.OrderSF}, 0, "1D 40"},
-		{api.Order{Kind: api.OrderSF, Byte: 0xC1}, 0, "1D C1"},
+		{api.Order{Kind: api.OrderSF, Byte: 0x01}, 0, "1D C1"},
+		{api.Order{Kind: api.OrderSF, Byte: 0x3F}, 0, "1D 7F"},
 		{api.Order{Kind: api.OrderSA, Pairs: []api.Pair{{}}}, 0, "28 00 00"},
 		{api.Order{Kind: api.OrderSA, Pairs: []api.Pair{{Type: 0x42, Value: 0xF2}}}, 0, "28 42 F2"},
 		{api.Order{Kind: api.OrderSFE}, 0, "29 00"},
@@ -84,17 +85,54 @@ func TestWriteKinds(t *testing.T) { // P12.1: no other kinds, whatever stands in
 	}
 }
 
-func TestWriteAttributes(t *testing.T) { // P12.1 and P12.2: all 256, as layer 11's Byte
+func TestWriteAttributes(t *testing.T) { // P12.1 and P12.2: those of six bits, as layer 11's Byte; no others, as they would be parsed as these
 	for i := range 256 {
-		b, e := Write([]api.Order{{Kind: api.OrderSF, Byte: byte(i)}}, 0)
-		if !bytes.Equal(b, []byte{0x1D, attr.Byte(byte(i))}) || e != api.OK {
-			t.Fatalf("SF %02X: % X %d", i, b, e)
+		o := api.Order{Kind: api.OrderSF, Byte: byte(i)}
+		if i >= 0x40 {
+			wantNoWrite(t, []api.Order{o}, 0, api.ErrOrder)
+			wantNoWrite(t, []api.Order{{Data: []byte{0xC1}}, o, {Kind: api.OrderIC}}, 1920, api.ErrOrder)
+			continue
 		}
-		os, _, _ := Parse(b)
-		if len(os) != 1 || !attr.Same(os[0].Byte, byte(i)) || i < 64 && os[0].Byte != byte(i) {
-			t.Fatalf("SF %02X: %+v", i, os)
+		wantWrite(t, []api.Order{o}, 0, []byte{0x1D, attr.Byte(byte(i))})
+		b, _ := Write([]api.Order{o}, 1920)
+		if os, n, e := Parse(b); !sameAll(os, []api.Order{o}) || n != 2 || e != api.OK {
+			t.Fatalf("SF %02X: % X, parsed as %q %d %d", i, b, texts(os), n, e)
 		}
-		wantWrite(t, []api.Order{{Kind: api.OrderSFE, Pairs: []api.Pair{{Type: 0xC0, Value: byte(i)}}}}, 0, []byte{0x29, 1, 0xC0, byte(i)})
+	}
+}
+
+func TestWritePairValues(t *testing.T) { // P12.1 and P12.2: all 256, an attribute's too, as they stand: they are parsed so
+	for i := range 256 {
+		for _, kind := range []byte{api.OrderSFE, api.OrderMF} {
+			o := api.Order{Kind: kind, Pairs: []api.Pair{{Type: 0xC0, Value: byte(i)}}}
+			wantWrite(t, []api.Order{o}, 0, []byte{kind, 1, 0xC0, byte(i)})
+			wantParse(t, []byte{kind, 1, 0xC0, byte(i)}, Text(o), 4, api.OK)
+		}
+	}
+}
+
+// TestWrittenIsParsedAlone writes orders of every kind with every byte in every place that a byte has in them: what isn't refused must be parsed as it.
+func TestWrittenIsParsedAlone(t *testing.T) { // P12.2
+	for kind := range 256 {
+		for i := range 256 {
+			b := byte(i)
+			for _, o := range []api.Order{
+				{Byte: b}, {Byte: b, GE: true}, {Byte: b, Addr: i}, {Byte: b, Addr: i, GE: true}, {Addr: 64 * i}, {Data: []byte{b}},
+				{Pairs: []api.Pair{{Type: b}}}, {Pairs: []api.Pair{{Type: b, Value: b}}}, {Pairs: []api.Pair{{Type: 0x41, Value: b}}}, {Pairs: []api.Pair{{Type: 0xC0, Value: b}}},
+			} {
+				o.Kind = byte(kind)
+				for _, cells := range []int{1920, 4096, 16384} {
+					out, e := Write([]api.Order{o}, cells)
+					if e != api.OK {
+						continue
+					}
+					os, n, f := Parse(out)
+					if !sameAll(os, joined([]api.Order{o})) || n != len(out) || f != api.OK {
+						t.Fatalf("%+v: % X, parsed as %+v %d %d", o, out, os, n, f)
+					}
+				}
+			}
+		}
 	}
 }
 
@@ -186,8 +224,13 @@ func TestWriteStrange(t *testing.T) { // P12.1: what doesn't belong to a kind
 		api.OrderSF: "byte", api.OrderSA: "pairs", api.OrderSFE: "pairs", api.OrderMF: "pairs", api.OrderRA: "addr byte ge",
 	}
 	turn := map[string]func(o *api.Order){
-		"addr":  func(o *api.Order) { o.Addr = 1 },
-		"byte":  func(o *api.Order) { o.Byte = 0xC1 },
+		"addr": func(o *api.Order) { o.Addr = 1 },
+		"byte": func(o *api.Order) {
+			o.Byte = 0xC1
+			if o.Kind == api.OrderSF {
+				o.Byte = 0x01
+			}
+		},
 		"ge":    func(o *api.Order) { o.GE = true },
 		"pairs": func(o *api.Order) { o.Pairs = []api.Pair{{Type: 0x41}} },
 		"data":  func(o *api.Order) { o.Data = []byte{0xC1} },
@@ -244,6 +287,11 @@ func TestWriteFirstError(t *testing.T) { // P12.1: of each order ErrOrder (kind)
 		{api.Order{Kind: api.OrderRA, Addr: -1, Pairs: bad, Byte: 1}, api.ErrArg},
 		{api.Order{Kind: api.OrderRA, Byte: 1, Data: []byte{0xC1}}, api.ErrArg},
 		{api.Order{Kind: api.OrderGE, Byte: 1, GE: true}, api.ErrArg},
+		{api.Order{Kind: api.OrderSF, Byte: 0x40, GE: true}, api.ErrArg},
+		{api.Order{Kind: api.OrderSF, Byte: 0x40, Addr: 1}, api.ErrArg},
+		{api.Order{Kind: api.OrderSF, Byte: 0xFF, Pairs: bad}, api.ErrArg},
+		{api.Order{Kind: api.OrderSF, Byte: 0x40, Data: []byte{0xC1}}, api.ErrArg},
+		{api.Order{Kind: api.OrderSF, Byte: 0x40}, api.ErrOrder},
 		{api.Order{Kind: api.OrderData, Data: []byte{1}, Byte: 1}, api.ErrArg},
 		{api.Order{Kind: api.OrderSFE, Pairs: bad}, api.ErrMany},
 		{api.Order{Kind: api.OrderSA, Pairs: bad[:2]}, api.ErrMany},
@@ -269,6 +317,7 @@ var wrongs = []struct {
 	{api.Order{Kind: api.OrderSA}, api.ErrMany},
 	{api.Order{Kind: api.OrderSBA, Addr: 6}, api.ErrAddress},
 	{api.Order{Data: []byte{1}}, api.ErrOrder},
+	{api.Order{Kind: api.OrderSF, Byte: 0x40}, api.ErrOrder},
 	{api.Order{Kind: api.OrderMF, Pairs: []api.Pair{{}}}, api.ErrAttr},
 }
 
