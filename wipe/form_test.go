@@ -94,15 +94,18 @@ func (f *form) rest(from int) (int, bool) {
 	return many, true
 }
 
-// inside is Inside: so many cells behind a place.
+// inside is Inside: so many cells behind a place. A cell is counted once, however often the places go round.
 func (f *form) inside(start, many int) int {
 	if !f.has(start) || many < 0 {
 		return 0
 	}
+	gone := map[int]bool{}
 	for i := range many {
-		f.cells[(start+1+i)%len(f.cells)] = api.Cell{}
+		at := (start + 1 + i) % len(f.cells)
+		f.cells[at] = api.Cell{}
+		gone[at] = true
 	}
-	return many
+	return len(gone)
 }
 
 // sizes are planes of one cell to nine.

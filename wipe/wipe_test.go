@@ -297,20 +297,58 @@ func TestInsideOfNoField(t *testing.T) { // P17.1: one whose Start isn't there, 
 	largePlanes(t, try)
 }
 
-func TestInsideOfGreatLen(t *testing.T) { // P1 and P17.1: it ends, and tells so many
-	for _, s := range sizes {
-		for _, many := range []int{4097, 1 << 20, math.MaxInt32, 1 << 40, math.MaxInt - 1, math.MaxInt} {
-			p := sized(t, s)
-			strew(rand.New(rand.NewSource(2)), p, func(at int) bool { return at%2 == 0 })
-			cursor := p.Cursor()
-			for range 2 {
-				if got := Inside(p, field.Field{Start: p.Len() - 1, Len: many}); got != many {
-					t.Errorf("%d of %d cells, not %d", got, p.Len(), many)
-				}
-				wantForm(t, p, &form{cells: make([]api.Cell, p.Len()), cursor: cursor}, "Inside")
+func TestInsideOfMoreThanThereAre(t *testing.T) { // P17.1: no more cells become zero cells than there are, whatever Len a field has that isn't there
+	for _, c := range []struct {
+		name, before string
+		start, many  int
+		after        string
+		told         int
+	}{
+		{"none", ")AB]C", 3, 0, ")AB]C", 0},
+		{"up to the last cell", ")AB]C", 3, 1, ")AB].", 1},
+		{"over another one's attribute", ")AB]C", 3, 3, "..B].", 3},
+		{"all but its own attribute", ")AB]C", 3, 4, "...].", 4},
+		{"all of them", ")AB]C", 3, 5, ".....", 5},
+		{"one too many", ")AB]C", 3, 6, ".....", 5},
+		{"not quite two rounds", ")AB]C", 3, 9, ".....", 5},
+		{"two rounds", ")AB]C", 3, 10, ".....", 5},
+		{"more than two", ")AB]C", 3, 11, ".....", 5},
+		{"where no attribute stands", ")AB]C", 1, 7, ".....", 5},
+		{"not formatted", "AbC", 2, 4, "...", 3},
+		{"empty already", "...", 0, 8, "...", 3},
+		{"a plane of one cell", "]", 0, 2, ".", 1},
+	} {
+		p := laid(t, c.before)
+		p.Point(p.Len() - 1)
+		for range 2 {
+			if told := Inside(p, field.Field{Start: c.start, Len: c.many}); told != c.told || drawn(p) != c.after || p.Cursor() != p.Len()-1 {
+				t.Errorf("%s: %q, %d, cursor %d; not %q, %d", c.name, drawn(p), told, p.Cursor(), c.after, c.told)
 			}
 		}
 	}
+}
+
+func TestInsideOfGreatLen(t *testing.T) { // P1 and P17.1: it ends, and tells all cells, each once
+	try := func(p *plane.Plane) {
+		want := &form{cells: make([]api.Cell, p.Len()), cursor: p.Cursor()}
+		for _, many := range []int{p.Len(), p.Len() + 1, 2*p.Len() - 1, 2 * p.Len(), 4097, 1 << 20, math.MaxInt32, 1 << 40, math.MaxInt - 1, math.MaxInt} {
+			for _, start := range []int{0, p.Len() / 2, p.Len() - 1} {
+				got := p.Clone()
+				for range 2 {
+					if told := Inside(got, field.Field{Start: start, Len: many}); told != p.Len() {
+						t.Fatalf("Len %d: %d of %d cells", many, told, p.Len())
+					}
+					wantForm(t, got, want, "Inside")
+				}
+			}
+		}
+	}
+	eachPlane(t, func(p *plane.Plane) {
+		if p.Len() < 7 {
+			try(p)
+		}
+	})
+	largePlanes(t, try)
 }
 
 func TestNoPlane(t *testing.T) { // P1: a plane that was never made has nothing to let go
